@@ -1,0 +1,59 @@
+// Package yard: carts that cross a yard without meeting, at the least cost there is: see DOC.md.
+package yard
+
+import (
+	"yard/api"
+	"yard/grid"
+)
+
+// Session answers requests.
+type Session struct{}
+
+// Check tells what is wrong with a yard (P3).
+func Check(y api.Yard) (api.Errno, int) { return grid.Check(y) }
+
+// Far tells how far it is from each cell to one (P4).
+func Far(y api.Yard, cell int) ([]int, api.Errno) {
+	if e := fault(y); e != api.OK {
+		return nil, e
+	}
+	if !grid.Free(y, cell) {
+		return nil, api.ErrArg
+	}
+	return grid.Far(y, cell), api.OK
+}
+
+// Alone finds a path of one cart under rules (P5). So far it tells Check's error alone.
+func Alone(y api.Yard, cart int, rules []api.Rule) ([]int, api.Errno) { return nil, fault(y) }
+
+// Layers tells where one cart is in all its paths of one cost (P6). So far it tells Check's error alone.
+func Layers(y api.Yard, cart int, rules []api.Rule, cost int) ([][]int, api.Errno) {
+	return nil, fault(y)
+}
+
+// Judge tells the faults of a plan (P7). So far it tells Check's error alone.
+func Judge(y api.Yard, plan [][]int, level int) ([]api.Fault, api.Errno) { return nil, fault(y) }
+
+// Positions counts the positions of a yard (P8). So far it tells Check's error alone.
+func Positions(y api.Yard) (int, bool, api.Errno) { return 0, false, fault(y) }
+
+// Solve finds a good plan of the least cost (P9). So far it tells Check's error alone.
+func Solve(y api.Yard) ([][]int, int, api.Errno) { return nil, 0, fault(y) }
+
+// Write writes a yard as a text (P10). So far it tells Check's error alone.
+func Write(y api.Yard) (string, api.Errno) { return "", fault(y) }
+
+// Read reads the text of a yard (P10). So far it answers nothing.
+func Read(s string) (api.Yard, api.Errno, int) { return api.Yard{}, api.OK, 0 }
+
+// Open opens a session (P11). So far it answers nothing.
+func Open() *Session { return nil }
+
+// Ask answers a request (P11). So far it answers nothing.
+func (s *Session) Ask(request string) string { return "" }
+
+// fault: Check's error without its number, as the calls that are given a yard tell it.
+func fault(y api.Yard) api.Errno {
+	e, _ := grid.Check(y)
+	return e
+}
