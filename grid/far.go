@@ -15,8 +15,8 @@ func Far(y api.Yard, cell int) []int {
 	reached := []int{cell}
 	for next := 0; next < len(reached); next++ {
 		here := reached[next]
-		for _, there := range Neighbours(y, here) {
-			if Free(y, there) && steps[there] == noWay {
+		for _, there := range Moves(y, here) {
+			if steps[there] == noWay {
 				steps[there] = steps[here] + 1
 				reached = append(reached, there)
 			}

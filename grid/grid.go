@@ -28,4 +28,15 @@ func Neighbours(y api.Yard, cell int) []int {
 	return list
 }
 
+// Moves lists the cells to which a cart may go from a free cell of a good yard: that one, and the free ones beside it.
+func Moves(y api.Yard, cell int) []int {
+	list := []int{cell}
+	for _, there := range Neighbours(y, cell) {
+		if Free(y, there) {
+			list = append(list, there)
+		}
+	}
+	return list
+}
+
 func within(n, least, most int) bool { return least <= n && n <= most }

@@ -17,8 +17,15 @@ func TestNothingHandedInIsWritten(t *testing.T) {
 	yard.Check(y)
 	yard.Far(y, 1)
 	yard.Far(y, 5)
+	rules := []api.Rule{way(0, 1, 0), be(1, 3), off(2, 5), be(0, 0), way(2, 2, -9), off(77, 77)}
+	wereRules := slices.Clone(rules)
+	yard.Alone(y, 0, rules[:3])
+	yard.Layers(y, 0, rules[:3], 6)
 	if !slices.Equal(room, before) {
 		t.Errorf("P2: the carts are %v, they were %v", room, before)
+	}
+	if !slices.Equal(rules, wereRules) {
+		t.Errorf("P2: the rules are %v, they were %v", rules, wereRules)
 	}
 }
 
@@ -38,6 +45,66 @@ func TestAnswersAreNew(t *testing.T) {
 	}
 }
 
+// fill writes into a list and into its spare room.
+func fill(list []int) {
+	list = list[:cap(list)]
+	for i := range list {
+		list[i] = 77
+	}
+}
+
+func TestPathsAreNew(t *testing.T) {
+	y := made("...", 0, 2)
+	rules := []api.Rule{be(1, 4)}
+	first, _ := yard.Alone(y, 0, rules)
+	second, _ := yard.Alone(y, 0, rules)
+	was := slices.Clone(second)
+	fill(first)
+	if third, _ := yard.Alone(y, 0, rules); !slices.Equal(second, was) || !slices.Equal(third, was) {
+		t.Errorf("P2: Alone tells %v and %v, want %v: answers share room", second, third, was)
+	}
+}
+
+// The lists of one answer share no room, nor do those of two; nor do the lists of lists.
+func TestLayersAreNew(t *testing.T) {
+	y := made("../..", 0, 3)
+	want := [][]int{{0}, {0, 1, 2}, {0, 1, 2, 3}, {1, 2}, {3}}
+	for at := range want {
+		first, _ := yard.Layers(y, 0, nil, 4)
+		second, _ := yard.Layers(y, 0, nil, 4)
+		fill(first[at])
+		for other := range want {
+			if other != at && !slices.Equal(first[other], want[other]) {
+				t.Errorf("P2: the layer %d is %v, once the layer %d is written into", other, first[other], at)
+			}
+		}
+		whole := first[:cap(first)]
+		for i := range whole {
+			whole[i] = nil
+		}
+		third, _ := yard.Layers(y, 0, nil, 4)
+		if !slices.EqualFunc(second, want, slices.Equal) || !slices.EqualFunc(third, want, slices.Equal) {
+			t.Errorf("P2: Layers tells %v and %v, want %v: answers share room", second, third, want)
+		}
+	}
+}
+
+// The same was asked, so the same is told, however maps are gone through.
+func TestAnswersAreTheSame(t *testing.T) {
+	y := made("..../..../....", 0, 11)
+	rules := []api.Rule{off(5, 2), off(6, 3), be(9, 6)}
+	path, _ := yard.Alone(y, 0, rules)
+	layers, _ := yard.Layers(y, 0, rules, 12)
+	for range 50 {
+		if p, _ := yard.Alone(y, 0, rules); !slices.Equal(p, path) {
+			t.Fatalf("P5: Alone tells %v, it told %v", p, path)
+		}
+		if l, _ := yard.Layers(y, 0, rules, 12); !slices.EqualFunc(l, layers, slices.Equal) {
+			t.Fatalf("P6: Layers tells %v, it told %v", l, layers)
+		}
+	}
+}
+
 // An answer hangs on what was given, not on what was given ahead of it or is changed behind it.
 func TestNothingHandedInIsKept(t *testing.T) {
 	y := made("...", 0, 2)
@@ -51,5 +118,14 @@ func TestNothingHandedInIsKept(t *testing.T) {
 	y.Carts[0].To = 1
 	if e, _ := yard.Check(y); e != api.OK {
 		t.Errorf("P2: Check(%v): %d, once the cart was changed back", y, e)
+	}
+	rules := []api.Rule{be(2, 4)}
+	for at := range 4 {
+		rules[0].At = at + 4
+		path, _ := yard.Alone(y, 0, rules)
+		layers, _ := yard.Layers(y, 0, rules, at+5)
+		if len(path) != at+6 || path[at+4] != 2 || len(layers) != at+6 || !slices.Equal(layers[at+4], []int{2}) {
+			t.Errorf("P2: %v and %v, once the rule is %v", path, layers, rules[0])
+		}
 	}
 }

@@ -4,6 +4,7 @@ package yard
 import (
 	"yard/api"
 	"yard/grid"
+	"yard/lone"
 )
 
 // Session answers requests.
@@ -23,12 +24,28 @@ func Far(y api.Yard, cell int) ([]int, api.Errno) {
 	return grid.Far(y, cell), api.OK
 }
 
-// Alone finds a path of one cart under rules (P5). So far it tells Check's error alone.
-func Alone(y api.Yard, cart int, rules []api.Rule) ([]int, api.Errno) { return nil, fault(y) }
+// Alone finds a path of one cart under rules (P5).
+func Alone(y api.Yard, cart int, rules []api.Rule) ([]int, api.Errno) {
+	if e := loneFault(y, cart, rules, 0); e != api.OK {
+		return nil, e
+	}
+	path := lone.Path(y, y.Carts[cart], rules)
+	if path == nil {
+		return nil, api.ErrNone
+	}
+	return path, api.OK
+}
 
-// Layers tells where one cart is in all its paths of one cost (P6). So far it tells Check's error alone.
+// Layers tells where one cart is in all its paths of one cost (P6).
 func Layers(y api.Yard, cart int, rules []api.Rule, cost int) ([][]int, api.Errno) {
-	return nil, fault(y)
+	if e := loneFault(y, cart, rules, cost); e != api.OK {
+		return nil, e
+	}
+	layers := lone.Layers(y, y.Carts[cart], rules, cost)
+	if layers == nil {
+		return nil, api.ErrNone
+	}
+	return layers, api.OK
 }
 
 // Judge tells the faults of a plan (P7). So far it tells Check's error alone.
@@ -56,4 +73,18 @@ func (s *Session) Ask(request string) string { return "" }
 func fault(y api.Yard) api.Errno {
 	e, _ := grid.Check(y)
 	return e
+}
+
+// loneFault: what is wrong with what the calls for one cart are given. A cost of 0 is never wrong.
+func loneFault(y api.Yard, cart int, rules []api.Rule, cost int) api.Errno {
+	e := fault(y)
+	switch {
+	case e != api.OK:
+		return e
+	case cart < 0 || cart >= len(y.Carts) || cost < 0 || cost > api.MaxTime:
+		return api.ErrArg
+	case !lone.Good(y, rules):
+		return api.ErrRule
+	}
+	return api.OK
 }
