@@ -21,11 +21,20 @@ func TestNothingHandedInIsWritten(t *testing.T) {
 	wereRules := slices.Clone(rules)
 	yard.Alone(y, 0, rules[:3])
 	yard.Layers(y, 0, rules[:3], 6)
+	plan := [][]int{{0, 1, 2, 77, 78}, {2, 1, 0, 79}, {80}}
+	werePlan := [][]int{{0, 1, 2, 77, 78}, {2, 1, 0, 79}, {80}}
+	yard.Judge(y, [][]int{plan[0][:3], plan[1][:1]}, 3)
+	yard.Judge(y, plan[:2], 3)
+	yard.Judge(y, plan[:1], 3)
+	yard.Positions(y)
 	if !slices.Equal(room, before) {
 		t.Errorf("P2: the carts are %v, they were %v", room, before)
 	}
 	if !slices.Equal(rules, wereRules) {
 		t.Errorf("P2: the rules are %v, they were %v", rules, wereRules)
+	}
+	if !slices.EqualFunc(plan, werePlan, slices.Equal) {
+		t.Errorf("P2: the plan is %v, it was %v", plan, werePlan)
 	}
 }
 
@@ -89,6 +98,22 @@ func TestLayersAreNew(t *testing.T) {
 	}
 }
 
+func TestFaultsAreNew(t *testing.T) {
+	y := made("...", 0, 2, 2, 0)
+	for _, plan := range [][][]int{{{0, 1, 2}, {2, 1, 0}}, {{1}, {9, 1, 1}}, nil} {
+		first, _ := yard.Judge(y, plan, 3)
+		second, _ := yard.Judge(y, plan, 3)
+		was := slices.Clone(second)
+		whole := first[:cap(first)]
+		for i := range whole {
+			whole[i] = api.Fault{Level: 77}
+		}
+		if third, _ := yard.Judge(y, plan, 3); !slices.Equal(second, was) || !slices.Equal(third, was) {
+			t.Errorf("P2: Judge tells %v and %v, want %v: answers share room", second, third, was)
+		}
+	}
+}
+
 // The same was asked, so the same is told, however maps are gone through.
 func TestAnswersAreTheSame(t *testing.T) {
 	y := made("..../..../....", 0, 11)
@@ -126,6 +151,19 @@ func TestNothingHandedInIsKept(t *testing.T) {
 		layers, _ := yard.Layers(y, 0, rules, at+5)
 		if len(path) != at+6 || path[at+4] != 2 || len(layers) != at+6 || !slices.Equal(layers[at+4], []int{2}) {
 			t.Errorf("P2: %v and %v, once the rule is %v", path, layers, rules[0])
+		}
+	}
+	apart, plan := made("..#.", 0, 1), [][]int{{0, 1}}
+	for _, last := range []int{1, 3, 1, 0, 1} {
+		plan[0][1] = last
+		if faults, _ := yard.Judge(apart, plan, 0); (len(faults) == 0) != (last == 1) {
+			t.Errorf("P2: Judge tells %v, once the plan is %v", faults, plan)
+		}
+	}
+	for _, to := range []int{1, 3, 1} {
+		apart.Carts[0].To = to
+		if n, arrives, _ := yard.Positions(apart); n != 2 || arrives != (to == 1) {
+			t.Errorf("P2: Positions tells %d, %t, once the cart is %v", n, arrives, apart.Carts[0])
 		}
 	}
 }

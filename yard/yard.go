@@ -4,6 +4,8 @@ package yard
 import (
 	"yard/api"
 	"yard/grid"
+	"yard/joint"
+	"yard/judge"
 	"yard/lone"
 )
 
@@ -48,11 +50,28 @@ func Layers(y api.Yard, cart int, rules []api.Rule, cost int) ([][]int, api.Errn
 	return layers, api.OK
 }
 
-// Judge tells the faults of a plan (P7). So far it tells Check's error alone.
-func Judge(y api.Yard, plan [][]int, level int) ([]api.Fault, api.Errno) { return nil, fault(y) }
+// Judge tells the faults of a plan (P7).
+func Judge(y api.Yard, plan [][]int, level int) ([]api.Fault, api.Errno) {
+	if e := fault(y); e != api.OK {
+		return nil, e
+	}
+	if level < judge.Ends || level > judge.Swaps {
+		return nil, api.ErrArg
+	}
+	return judge.Faults(y, plan, level), api.OK
+}
 
-// Positions counts the positions of a yard (P8). So far it tells Check's error alone.
-func Positions(y api.Yard) (int, bool, api.Errno) { return 0, false, fault(y) }
+// Positions counts the positions of a yard (P8).
+func Positions(y api.Yard) (int, bool, api.Errno) {
+	if e := fault(y); e != api.OK {
+		return 0, false, e
+	}
+	n, arrives := joint.Count(y)
+	if n > y.Budget {
+		return 0, false, api.ErrMany
+	}
+	return n, arrives, api.OK
+}
 
 // Solve finds a good plan of the least cost (P9). So far it tells Check's error alone.
 func Solve(y api.Yard) ([][]int, int, api.Errno) { return nil, 0, fault(y) }
