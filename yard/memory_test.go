@@ -27,6 +27,11 @@ func TestNothingHandedInIsWritten(t *testing.T) {
 	yard.Judge(y, plan[:2], 3)
 	yard.Judge(y, plan[:1], 3)
 	yard.Positions(y)
+	yard.Solve(y)
+	y.Rows, y.Cells = 2, "...#.#"
+	yard.Solve(y)
+	y.Budget = 11
+	yard.Solve(y)
 	if !slices.Equal(room, before) {
 		t.Errorf("P2: the carts are %v, they were %v", room, before)
 	}
@@ -114,13 +119,43 @@ func TestFaultsAreNew(t *testing.T) {
 	}
 }
 
+// The paths of one plan share no room, nor do those of two; nor do the plans.
+func TestPlansAreNew(t *testing.T) {
+	y := made(".../#.#/#.#", 0, 2, 2, 0, 4, 4)
+	want, _, _ := yard.Solve(y)
+	for cart := range want {
+		first, _, _ := yard.Solve(y)
+		second, _, _ := yard.Solve(y)
+		fill(first[cart])
+		for other := range want {
+			if other != cart && !slices.Equal(first[other], want[other]) {
+				t.Errorf("P2: the path %d is %v, once the path %d is written into", other, first[other], cart)
+			}
+		}
+		whole := first[:cap(first)]
+		for i := range whole {
+			whole[i] = nil
+		}
+		third, _, _ := yard.Solve(y)
+		if !slices.EqualFunc(second, want, slices.Equal) || !slices.EqualFunc(third, want, slices.Equal) {
+			t.Errorf("P2: Solve tells %v and %v, want %v: answers share room", second, third, want)
+		}
+	}
+}
+
 // The same was asked, so the same is told, however maps are gone through.
 func TestAnswersAreTheSame(t *testing.T) {
 	y := made("..../..../....", 0, 11)
 	rules := []api.Rule{off(5, 2), off(6, 3), be(9, 6)}
 	path, _ := yard.Alone(y, 0, rules)
 	layers, _ := yard.Layers(y, 0, rules, 12)
+	// Many plans cost the same here.
+	many := wide("..../..../..##", 0, 5, 5, 0, 2, 8)
+	plan, _, _ := yard.Solve(many)
 	for range 50 {
+		if p, _, _ := yard.Solve(many); !slices.EqualFunc(p, plan, slices.Equal) {
+			t.Fatalf("P9: Solve tells %v, it told %v", p, plan)
+		}
 		if p, _ := yard.Alone(y, 0, rules); !slices.Equal(p, path) {
 			t.Fatalf("P5: Alone tells %v, it told %v", p, path)
 		}
@@ -164,6 +199,9 @@ func TestNothingHandedInIsKept(t *testing.T) {
 		apart.Carts[0].To = to
 		if n, arrives, _ := yard.Positions(apart); n != 2 || arrives != (to == 1) {
 			t.Errorf("P2: Positions tells %d, %t, once the cart is %v", n, arrives, apart.Carts[0])
+		}
+		if path, _, _ := yard.Solve(apart); (path != nil) != (to == 1) {
+			t.Errorf("P2: Solve tells %v, once the cart is %v", path, apart.Carts[0])
 		}
 	}
 }

@@ -73,8 +73,19 @@ func Positions(y api.Yard) (int, bool, api.Errno) {
 	return n, arrives, api.OK
 }
 
-// Solve finds a good plan of the least cost (P9). So far it tells Check's error alone.
-func Solve(y api.Yard) ([][]int, int, api.Errno) { return nil, 0, fault(y) }
+// Solve finds a good plan of the least cost, and that cost (P9).
+func Solve(y api.Yard) ([][]int, int, api.Errno) {
+	_, arrives, e := Positions(y)
+	if e != api.OK {
+		return nil, 0, e
+	}
+	// The positions of a good plan are the yard's, and from one to another there is always a plan.
+	if !arrives {
+		return nil, 0, api.ErrNone
+	}
+	plan, cost := joint.Plan(y)
+	return plan, cost, api.OK
+}
 
 // Write writes a yard as a text (P10). So far it tells Check's error alone.
 func Write(y api.Yard) (string, api.Errno) { return "", fault(y) }
