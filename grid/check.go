@@ -31,7 +31,7 @@ func badCell(y api.Yard) (int, bool) {
 		return len(y.Cells), true
 	}
 	for i := range len(y.Cells) {
-		if y.Cells[i] != free && y.Cells[i] != wall {
+		if !IsCell(y.Cells[i]) {
 			return i, true
 		}
 	}

@@ -8,6 +8,9 @@ const (
 	wall = '#'
 )
 
+// NoCell stands for the number of a cell that there is not.
+const NoCell = -1
+
 // sides: how many rows and columns a neighbour is away.
 var sides = [4]struct{ rows, cols int }{{-1, 0}, {1, 0}, {0, -1}, {0, 1}}
 
@@ -16,13 +19,23 @@ func Free(y api.Yard, cell int) bool {
 	return within(cell, 0, len(y.Cells)-1) && y.Cells[cell] == free
 }
 
+// IsCell tells whether a byte may stand in a yard's Cells.
+func IsCell(b byte) bool { return b == free || b == wall }
+
+// At tells the number of the cell in a row and a column; NoCell, if one of them lies outside.
+func At(y api.Yard, row, col int) int {
+	if !within(row, 0, y.Rows-1) || !within(col, 0, y.Cols-1) {
+		return NoCell
+	}
+	return row*y.Cols + col
+}
+
 // Neighbours lists the cells beside a cell of a good yard, walls among them.
 func Neighbours(y api.Yard, cell int) []int {
 	var list []int
 	for _, s := range sides {
-		row, col := cell/y.Cols+s.rows, cell%y.Cols+s.cols
-		if within(row, 0, y.Rows-1) && within(col, 0, y.Cols-1) {
-			list = append(list, row*y.Cols+col)
+		if there := At(y, cell/y.Cols+s.rows, cell%y.Cols+s.cols); there != NoCell {
+			list = append(list, there)
 		}
 	}
 	return list

@@ -2,7 +2,9 @@ package yard_test
 
 import (
 	"slices"
+	"strconv"
 	"testing"
+	"unsafe"
 
 	"yard/api"
 	"yard/yard"
@@ -32,6 +34,8 @@ func TestNothingHandedInIsWritten(t *testing.T) {
 	yard.Solve(y)
 	y.Budget = 11
 	yard.Solve(y)
+	yard.Write(y)
+	yard.Write(changed(y, func(y *api.Yard) { y.Budget = 0 }))
 	if !slices.Equal(room, before) {
 		t.Errorf("P2: the carts are %v, they were %v", room, before)
 	}
@@ -140,6 +144,59 @@ func TestPlansAreNew(t *testing.T) {
 		if !slices.EqualFunc(second, want, slices.Equal) || !slices.EqualFunc(third, want, slices.Equal) {
 			t.Errorf("P2: Solve tells %v and %v, want %v: answers share room", second, third, want)
 		}
+	}
+}
+
+// The carts that Read tells are new, with their spare room.
+func TestReadYardsAreNew(t *testing.T) {
+	for _, carts := range []string{"0 0 0 2\n", "0 0 0 2\n0 2 0 0\n0 1 0 1\n"} {
+		s := "yard 100\n...\n" + carts
+		first, _, _ := yard.Read(s)
+		second, _, _ := yard.Read(s)
+		was := slices.Clone(second.Carts)
+		whole := first.Carts[:cap(first.Carts)]
+		for i := range whole {
+			whole[i] = api.Cart{From: 77, To: 77}
+		}
+		if third, _, _ := yard.Read(s); !slices.Equal(second.Carts, was) || !slices.Equal(third.Carts, was) {
+			t.Errorf("P2: Read tells %v and %v, want %v: answers share room", second.Carts, third.Carts, was)
+		}
+	}
+}
+
+// lent: a string over bytes that are written into later, so that what still hangs on it is seen.
+func lent(bytes []byte) string { return unsafe.String(&bytes[0], len(bytes)) }
+
+func TestNoStringIsKept(t *testing.T) {
+	for _, rows := range []string{"...", ".../#.#"} {
+		want := made(rows, 0, 2)
+		s, _ := yard.Write(want)
+		bytes := []byte(s)
+		y, _, _ := yard.Read(lent(bytes))
+		fillBytes(bytes)
+		if !sameYard(y, want) {
+			t.Errorf("P2: the yard that was read is %v, once the text is written into; it was %v", y, want)
+		}
+		bytes = []byte(want.Cells)
+		written, _ := yard.Write(changed(want, func(y *api.Yard) { y.Cells = lent(bytes) }))
+		fillBytes(bytes)
+		if written != s {
+			t.Errorf("P2: the text that was written is %q, once the cells are written into; it was %q", written, s)
+		}
+	}
+	session := yard.Open()
+	bytes := []byte("yard 100\n...\n0 0 0 2\n")
+	for _, c := range []struct{ from, to, answer string }{{"0", "2", "rr"}, {"2", "0", "ll"}, {"0", "1", "r"}, {"0", "2", "rr"}, {"1", "0", "l"}} {
+		copy(bytes[13:], "0 "+c.from+" 0 "+c.to)
+		if answer := session.Ask(lent(bytes)); answer != "plan "+strconv.Itoa(len(c.answer))+"\n"+c.answer+"\n" {
+			t.Errorf("P2: Ask(%q) = %q, want %q", bytes, answer, c.answer)
+		}
+	}
+}
+
+func fillBytes(bytes []byte) {
+	for i := range bytes {
+		bytes[i] = 'x'
 	}
 }
 

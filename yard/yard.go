@@ -7,6 +7,7 @@ import (
 	"yard/joint"
 	"yard/judge"
 	"yard/lone"
+	"yard/text"
 )
 
 // Session answers requests.
@@ -87,17 +88,44 @@ func Solve(y api.Yard) ([][]int, int, api.Errno) {
 	return plan, cost, api.OK
 }
 
-// Write writes a yard as a text (P10). So far it tells Check's error alone.
-func Write(y api.Yard) (string, api.Errno) { return "", fault(y) }
+// Write writes a yard as a text (P10).
+func Write(y api.Yard) (string, api.Errno) {
+	if e := fault(y); e != api.OK {
+		return "", e
+	}
+	return text.Write(y), api.OK
+}
 
-// Read reads the text of a yard (P10). So far it answers nothing.
-func Read(s string) (api.Yard, api.Errno, int) { return api.Yard{}, api.OK, 0 }
+// Read reads the text of a yard (P10).
+func Read(s string) (api.Yard, api.Errno, int) {
+	y, place, ok := text.Read(s)
+	if !ok {
+		return api.Yard{}, api.ErrText, place
+	}
+	if e, number := grid.Check(y); e != api.OK {
+		return api.Yard{}, e, number
+	}
+	return y, api.OK, 0
+}
 
-// Open opens a session (P11). So far it answers nothing.
-func Open() *Session { return nil }
+// Open opens a session (P11). There is nothing that it must keep: each answer hangs on its request alone.
+func Open() *Session { return &Session{} }
 
-// Ask answers a request (P11). So far it answers nothing.
-func (s *Session) Ask(request string) string { return "" }
+// Ask answers a request (P11).
+func (s *Session) Ask(request string) string {
+	y, e, place := Read(request)
+	if e != api.OK {
+		return text.Error(e, place)
+	}
+	plan, cost, e := Solve(y)
+	switch e {
+	case api.ErrMany:
+		return text.Many
+	case api.ErrNone:
+		return text.None
+	}
+	return text.Plan(y, plan, cost)
+}
 
 // fault: Check's error without its number, as the calls that are given a yard tell it.
 func fault(y api.Yard) api.Errno {
